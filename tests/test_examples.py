@@ -1,0 +1,152 @@
+"""The examples of the document, word for word, as far as the modules that there are answer them."""
+
+import doctest
+import unittest
+
+PLACES = r"""
+>>> from wellstrewn.forms import is_book, is_content, is_deed, is_dungeon, is_fraction, is_name, is_shuffle, is_state, reduced
+>>> from wellstrewn.places import all_places_at, asked_things, content_at, dungeon_at, dungeon_spots, halls_of, laid_at
+>>> from wellstrewn.places import places_at, places_of, room_at, shuffle_of, spots_of, telling_of
+>>> dungeon = (((None, None, 1), (0, "lock", 2)), 1)
+>>> world = ("north", (("camp", 1, None), ("keep", 1, dungeon)), ((0, 1, (0,)),))
+>>> book = ((world,), (("hook", 0), ("coin", 0)))
+>>> [is_book(book), is_book(book[:1]), is_book(((world,), (("hook", 1),))), is_book(((world,), ())), is_dungeon(dungeon)]
+[True, False, False, False, True]
+>>> [is_dungeon((((None, None, 1), (1, "lock", 2)), 1)), is_dungeon((dungeon[0], True)), is_dungeon(((), 0)), is_dungeon((dungeon[0], 9))]
+[False, False, False, True]
+>>> [is_name("cave2"), is_name("2cave"), is_name(""), is_name("Cave"), is_fraction((3, 4)), is_fraction((2, 4)), reduced(6, 8), reduced(0, 5)]
+[True, False, False, False, True, False, (3, 4), (0, 1)]
+>>> [spots_of(book), halls_of(book), dungeon_spots(book), asked_things(book)]
+[((0, 0), (0, 1)), ((0, 1, 0), (0, 1, 1)), ((0, 1),), (0,)]
+>>> places_of(book)
+((0, 0, -1, 0), (0, 1, -1, 0), (0, 1, 0, 0), (0, 1, 1, 0), (0, 1, 1, 1))
+>>> [places_at(book, (0, 0)), len(places_at(book, (0, 1))), all_places_at(book, (0, 1))[0], dungeon_at(book, (0, 0)), room_at(book, (0, 1, 1))]
+[(), 3, (0, 1, -1, 0), None, (0, 'lock', 2)]
+>>> shuffle = (("thing", 0), ("straw",), ("key",), ("straw",), ("thing", 1))
+>>> [is_shuffle(book, shuffle), is_shuffle(book, shuffle[:4]), is_shuffle(book, (("key",), ("straw",), ("thing", 0), ("straw",), ("thing", 1)))]
+[True, False, False]
+>>> [is_content(book, ("thing", 1)), is_content(book, ("thing", 2)), is_content(book, ("straw", 0)), content_at(book, shuffle, (0, 1, 1, 1))]
+[True, False, False, ('thing', 1)]
+>>> [laid_at(book, shuffle, (0, 1)), telling_of(book, shuffle)]
+[(None, (1, 0)), ((((), ((0, 1, 0, 0),)),), ((0, 0, -1, 0), (0, 1, 1, 1)))]
+>>> shuffle_of(book, telling_of(book, shuffle)) == shuffle
+True
+>>> [is_deed(book, ("open", (0, 1, 1, 1))), is_deed(book, ("open", (0, 1, 1, 2))), is_deed(book, ("unlock", (0, 1, 0))), is_deed(book, ("leave", 1))]
+[True, False, True, False]
+>>> [is_state(book, (((0, 1, 1, 0),), ((0, 1, 1),), ())), is_state(book, ((), ((0, 1, 0),), ())), is_state(book, ((), (), (0, 0)))]
+[True, False, False]
+"""
+
+TEXTS = r"""
+>>> from wellstrewn.errors import NoText
+>>> from wellstrewn.reader import read_book, read_deed, read_shuffle
+>>> from wellstrewn.shower import show_book, show_deed, show_shuffle
+>>> dungeon = (((None, None, 1), (0, "lock", 2)), 1)
+>>> north = ("north", (("camp", 1, None), ("keep", 0, dungeon)), ((0, 1, (0,)), (1, 0, ())))
+>>> book = ((north, ("south", (("yard", 1, None),), ())), (("hook", 0), ("coin", 1)))
+>>> lines = show_book(book).split("\n")
+>>> lines[:6]
+['world north', 'region camp 1', 'region keep 0', 'dungeon 1 1', 'room lock 0 2', 'world south']
+>>> lines[6:]
+['region yard 1', 'thing hook north', 'thing coin south', 'arrow north camp keep hook', 'arrow north keep camp']
+>>> read_book("\n".join(lines)) == book
+True
+>>> mixed = "world north\nthing hook north\n\n region  camp 1\nregion keep 0\narrow north camp keep hook\ndungeon 1 1\nroom lock 0 2\n"
+>>> mixed = mixed + "arrow north keep camp\nworld south\nregion yard 1 \nthing coin south"
+>>> read_book(mixed) == book
+True
+>>> for text in ("world north\nregion camp 1\nroom lock 0 2", "world north\nregion camp 1\n\nregion camp 2", "world north\n", "world a\nregion b 01"):
+...     try:
+...         read_book(text)
+...     except NoText as error:
+...         print(error.line)
+2
+3
+2
+1
+>>> shuffle = (("thing", 1), ("key",), ("straw",), ("straw",), ("thing", 0))
+>>> show_shuffle(book, shuffle).split("\n")
+['thing coin north camp 0', 'key north keep 0 0', 'thing hook south yard 0']
+>>> read_shuffle(book, "thing hook south yard 0\nkey north keep 0 0\n\nthing coin north camp 0") == shuffle
+True
+>>> for text in ("key north keep 0 0\nkey north keep 1 1", "key north camp 0", "thing hook north camp 0\nthing coin north camp 0", ""):
+...     try:
+...         read_shuffle(book, text)
+...     except NoText as error:
+...         print(error.line)
+1
+0
+1
+1
+>>> [show_deed(book, ("open", (0, 1, 1, 0))), show_deed(book, ("unlock", (0, 1, 1))), show_deed(book, ("leave", 1))]
+['open north keep 1 0', 'unlock north keep 1', 'leave south']
+>>> [read_deed(book, " open north camp  0"), read_deed(book, "unlock north keep 0")]
+[('open', (0, 0, -1, 0)), ('unlock', (0, 1, 0))]
+"""
+
+GATHERING = r"""
+>>> from wellstrewn.gathering import gathered, gathered_from, is_needed, is_round_row, leads_on, needed_things, round_of_spot, rounds_of
+>>> from wellstrewn.regions import barred_arrows, free_many, places_in, reached_spots, spots_off
+>>> keep = (((None, None, 1), (0, "lock", 1)), 1)
+>>> regions = (("home", 2, None), ("keep", 0, keep), ("peak", 1, None))
+>>> world = ("w", regions, ((0, 1, (0,)), (1, 2, (0, 2)), (2, 0, ())))
+>>> book = ((world,), (("hook", 0), ("coin", 0), ("rope", 0)))
+>>> [reached_spots(book, ()), reached_spots(book, (0,)), spots_off(book, (0, 1)), barred_arrows(book, (0,)), barred_arrows(book, ())]
+[((0, 0),), ((0, 0), (0, 1)), ((0, 2),), ((0, 1, (2,)),), ((0, 0, (0,)),)]
+>>> [places_in(book, ((0, 1), (0, 2))), free_many(book, ((0, 1),)), free_many(book, ((0, 0), (0, 1)))]
+[((0, 1, 0, 0), (0, 1, 1, 0), (0, 2, -1, 0)), 1, 3]
+>>> shuffle = (("thing", 0), ("straw",), ("key",), ("thing", 2), ("thing", 1))
+>>> [rounds_of(book, shuffle), gathered(book, shuffle), leads_on(book, shuffle), round_of_spot(book, shuffle, (0, 2))]
+[((0,), (2,), (1,)), (0, 1, 2), True, 2]
+>>> [needed_things(book, shuffle), is_needed(book, shuffle, 1), is_round_row(book, shuffle, [(0,), (2,), (1,)])]
+[(0, 2), False, False]
+>>> other = (("thing", 1), ("straw",), ("key",), ("thing", 2), ("thing", 0))
+>>> [rounds_of(book, other), leads_on(book, other), round_of_spot(book, other, (0, 1)), gathered_from(book, other, (0,))]
+[((1,),), False, None, (0, 1, 2)]
+"""
+
+# The rows about nets are left out of this one.
+PARTS = r"""
+>>> from wellstrewn.parts import all_parts, branch_of, closed_part, is_part, net_of, opened_part, rim_of, way_has_bar, way_to
+>>> dungeon = (((None, None, 2), (0, "lock", 1), (0, "lock", 1), (2, "bar", 1)), 2)
+>>> [branch_of(dungeon, 2), way_to(dungeon, 3), way_has_bar(dungeon, 3), way_has_bar(dungeon, 2), way_has_bar(dungeon, None), rim_of(dungeon, (0, 2))]
+[(2, 3), (0, 2, 3), True, False, False, (1, 3)]
+>>> good, bad = (0, (2, 0, 0, 0)), (0, (1, 1, 0, 0))
+>>> all_parts(dungeon, good)
+[(0,), (0, 1), (0, 1, 2, 3), (0, 2, 3)]
+>>> [[net_of(dungeon, laid, part) for part in all_parts(dungeon, laid)] for laid in (good, bad)]
+[[2, 1, 0, 1], [1, 1, 0, 0]]
+>>> [is_part(dungeon, good, (0, 2)), is_part(dungeon, (1, (2, 0, 0, 0)), (0, 2)), is_part(dungeon, good, [0]), closed_part(dungeon, (1, (2, 0, 0, 0)), (3,))]
+[False, True, False, (0, 1, 2, 3)]
+>>> [opened_part(dungeon, good, ()), opened_part(dungeon, good, (2,)), opened_part(dungeon, (2, (2, 0, 0, 0)), (2,)), opened_part(dungeon, (1, (2, 0, 0, 0)), (2,))]
+[(0,), (0, 2, 3), (0, 2, 3), (0, 2)]
+>>> plain = (((None, None, 2), (0, "lock", 1), (1, "lock", 1), (0, "open", 2)), 2)
+>>> all_parts(plain, (None, (1, 0, 0, 1)))
+[(0, 1, 2, 3), (0, 1, 3), (0, 3)]
+"""
+
+
+class Examples(unittest.TestCase):
+
+    def check(self, text):
+        example = doctest.DocTestParser().get_doctest(text, {}, "example", None, 0)
+        told = []
+        found = doctest.DocTestRunner(verbose=False).run(example, out=told.append)
+        self.assertGreater(found.attempted, 9)
+        self.assertEqual((found.failed, "".join(told)), (0, ""))
+
+    def test_places_and_forms(self):
+        self.check(PLACES)
+
+    def test_shower_and_reader(self):
+        self.check(TEXTS)
+
+    def test_regions_and_gathering(self):
+        self.check(GATHERING)
+
+    def test_parts(self):
+        self.check(PARTS)
+
+
+if __name__ == "__main__":
+    unittest.main()

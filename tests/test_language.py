@@ -1,0 +1,129 @@
+"""The package keeps to its small subset of Python, as far as a look at its rows can tell; and [3], the interface."""
+
+import ast
+import builtins
+import inspect
+import os
+import unittest
+
+from wellstrewn import errors, forms, gathering, parts, places, reader, regions, shower
+
+FOLDER = os.path.join(os.path.dirname(os.path.dirname(os.path.abspath(__file__))), "wellstrewn")
+# The modules in the order in which they are written: each may use those above it.
+ORDER = ("errors", "places", "forms", "shower", "reader", "regions", "gathering", "parts")
+BUILTINS = """len range enumerate zip min max sum abs sorted reversed int str bool bytes list tuple dict set frozenset isinstance
+ord repr any all divmod pow ValueError""".split()
+METHODS = """append clear copy count endswith extend find get index insert isalnum isalpha isdigit islower isspace isupper items
+join keys ljust lower lstrip partition pop remove replace reverse rfind rjust rpartition rsplit rstrip setdefault split
+splitlines startswith strip update upper values zfill bit_length add discard""".split()
+BARRED_WORDS = """type typing enum Enum Flag Generic Protocol ABC namedtuple dataclass overload global async await float
+register mro elements open input law exec eval compile globals locals vars dir id help exit quit""".split()
+# A console keeps its last value as `_`.
+ALL_BUILTINS = [name for name in dir(builtins) if name != "_"]
+BARRED_NODES = (ast.AsyncFunctionDef, ast.AsyncFor, ast.AsyncWith, ast.Await, ast.Global, ast.Div, ast.GeneratorExp, ast.MatMult)
+
+INTERFACE = {
+    errors: """StrewError NoCommand NoDeed(index) NoFit NoName(name) NoNumber(many) NoText(line) NotGood TooMany(most) Twice(name)
+Wrong(place)""",
+    places: """spots_of(book) halls_of(book) places_of(book) dungeon_spots(book) asked_things(book) places_at(book,spot)
+all_places_at(book,spot) region_at(book,spot) dungeon_at(book,spot) room_at(book,hall) content_at(book,shuffle,place)
+laid_at(book,shuffle,spot) telling_of(book,shuffle) shuffle_of(book,telling)""",
+    forms: """is_integer(thing) is_name(thing) is_fraction(thing) is_dungeon(thing) is_book(thing) is_content(book,thing)
+is_shuffle(book,thing) is_deed(book,thing) is_state(book,thing) reduced(n,d)""",
+    shower: "show_book(book) show_shuffle(book,shuffle) show_deed(book,deed)",
+    reader: "read_book(text) read_shuffle(book,text) read_deed(book,text)",
+    regions: """first_spots(book) reached_spots(book,held) spots_off(book,held) places_in(book,spots) barred_arrows(book,held)
+free_many(book,spots)""",
+    gathering: """rounds_from(book,shuffle,held) rounds_of(book,shuffle) gathered_from(book,shuffle,held) gathered(book,shuffle)
+needed_things(book,shuffle) leads_on(book,shuffle) is_needed(book,shuffle,thing) is_round_row(book,shuffle,thing)
+round_of_spot(book,shuffle,spot)""",
+    parts: """branch_of(dungeon,v) way_to(dungeon,v) rim_of(dungeon,rooms) closed_part(dungeon,laid,rooms)
+opened_part(dungeon,laid,rooms) all_parts(dungeon,laid) net_of(dungeon,laid,part) way_has_bar(dungeon,big)
+is_part(dungeon,laid,thing)""",
+}
+
+
+def sources():
+    names = sorted([name for name in os.listdir(FOLDER) if name != "__pycache__"])
+    for name in names:
+        with open(os.path.join(FOLDER, name), encoding="utf-8") as source:
+            yield name, source.read()
+
+
+class Language(unittest.TestCase):
+
+    def test_files(self):
+        names = [name for name, _ in sources()]
+        self.assertEqual(names, sorted(["__init__.py"] + [name + ".py" for name in ORDER]))
+        self.assertEqual(dict(sources())["__init__.py"], "")
+
+    def test_sizes_and_signs(self):
+        for name, text in sources():
+            lines = text.split("\n")
+            self.assertLessEqual(len(lines), 399, name)
+            self.assertLessEqual(max([len(line) for line in lines]), 120, name)
+            self.assertEqual([sign for sign in text if sign != "\n" and not " " <= sign <= "~"], [], name)
+            for node in ast.walk(ast.parse(text)):
+                if isinstance(node, ast.FunctionDef):
+                    self.assertLessEqual(node.end_lineno - node.lineno + 1, 40, (name, node.name))
+
+    def test_imports(self):
+        for name, text in sources():
+            for node in ast.walk(ast.parse(text)):
+                self.assertNotIsInstance(node, ast.Import, name)
+                if isinstance(node, ast.ImportFrom) and node.module != "math":
+                    package, module = node.module.split(".")
+                    self.assertEqual((package, node.level), ("wellstrewn", 0))
+                    self.assertLess(ORDER.index(module), ORDER.index(name[:-3]), name)
+
+    def test_module_level(self):
+        for name, text in sources():
+            body = ast.parse(text).body
+            for k, node in enumerate(body):
+                plain = isinstance(node, (ast.FunctionDef, ast.ClassDef, ast.ImportFrom, ast.Assign))
+                self.assertTrue(plain or k == 0 and isinstance(node, ast.Expr), (name, node.lineno))
+            bound = [node.name for node in body if isinstance(node, (ast.FunctionDef, ast.ClassDef))]
+            bound += [target.id for node in body if isinstance(node, ast.Assign) for target in node.targets]
+            bound += [found.name for node in body if isinstance(node, ast.ImportFrom) for found in node.names]
+            self.assertEqual(len(bound), len(set(bound)), name)
+
+    def test_names_and_words(self):
+        for name, text in sources():
+            for node in ast.walk(ast.parse(text)):
+                self.assertNotIsInstance(node, BARRED_NODES, (name, getattr(node, "lineno", 0)))
+                if isinstance(node, ast.Name):
+                    own = isinstance(node.ctx, ast.Store) or node.id not in ALL_BUILTINS
+                    self.assertTrue(node.id not in ALL_BUILTINS if own else node.id in BUILTINS, (name, node.id))
+                    self.assertNotIn(node.id, BARRED_WORDS, name)
+                if isinstance(node, ast.arg):
+                    self.assertNotIn(node.arg, ALL_BUILTINS + BARRED_WORDS, name)
+                if isinstance(node, ast.Constant):
+                    self.assertNotIsInstance(node.value, (float, complex), name)
+
+    def test_calls_and_comparisons(self):
+        for name, text in sources():
+            own = [node.name for node in ast.walk(ast.parse(text)) if isinstance(node, ast.FunctionDef)]
+            for node in ast.walk(ast.parse(text)):
+                if isinstance(node, ast.Call) and isinstance(node.func, ast.Attribute):
+                    self.assertIn(node.func.attr, METHODS + own, (name, node.lineno))
+                if isinstance(node, ast.Compare) and isinstance(node.ops[0], (ast.Is, ast.IsNot)):
+                    self.assertIn(ast.unparse(node.comparators[0]), ("None", "True", "False"), (name, node.lineno))
+                if isinstance(node, (ast.FunctionDef, ast.ClassDef)):
+                    self.assertEqual(node.decorator_list, [], (name, node.name))
+                    self.assertTrue(ast.get_docstring(node) or node.name == "__init__", (name, node.name))
+
+
+class Interface(unittest.TestCase):
+
+    def test_names_and_arguments(self):
+        for module, rows in INTERFACE.items():
+            for row in rows.split():
+                name, _, arguments = row.rstrip(")").partition("(")
+                found = getattr(module, name)
+                self.assertEqual(found.__module__, module.__name__)
+                if arguments:
+                    self.assertEqual(",".join(inspect.signature(found).parameters), arguments, name)
+
+
+if __name__ == "__main__":
+    unittest.main()
