@@ -208,12 +208,13 @@ class SameAgain:
     """Mixed into a TestCase: answers that are the same again, of arguments that stay."""
 
     def answer(self, function, *arguments):
-        kept = copy.deepcopy(arguments)
+        other = copy.deepcopy(arguments)
+        # Errors are alike only in what they show, and so are truths and integers unlike.
+        before = repr(arguments)
         first = function(*arguments)
-        again = function(*kept)
+        again = function(*other)
         self.assertEqual(repr(first), repr(again))
-        # Errors stand there as objects of their own, alike only in what they show.
-        self.assertEqual(repr(arguments), repr(kept))
+        self.assertEqual((repr(arguments), repr(other)), (before, before))
         return first
 
     def says(self, function, *arguments):

@@ -9,37 +9,39 @@ import unittest
 from wellstrewn import errors, forms, gathering, parts, places, reader, regions, shower
 
 FOLDER = os.path.join(os.path.dirname(os.path.dirname(os.path.abspath(__file__))), "wellstrewn")
-# The modules in the order in which they are written: each may use those above it.
-ORDER = ("errors", "places", "forms", "shower", "reader", "regions", "gathering", "parts")
-BUILTINS = """len range enumerate zip min max sum abs sorted reversed int str bool bytes list tuple dict set frozenset isinstance
+# All modules that the document names, in its order: each may use those above it.
+ORDER = """errors places forms shower reader regions gathering parts nets plays deadends goodness papers keytables
+keylayings thingtables thinglayings numbering drawing knowledge trackers races results journal house desk""".split()
+BUILTINS = """len range enumerate zip min max sum abs sorted reversed int str bool bytes list tuple dict set isinstance
 ord repr any all divmod pow ValueError""".split()
-METHODS = """append clear copy count endswith extend find get index insert isalnum isalpha isdigit islower isspace isupper items
-join keys ljust lower lstrip partition pop remove replace reverse rfind rjust rpartition rsplit rstrip setdefault split
-splitlines startswith strip update upper values zfill bit_length add discard""".split()
+METHODS = """append clear copy count endswith extend find get index insert isalnum isalpha isdigit islower isspace
+isupper items join keys ljust lower lstrip partition pop remove replace reverse rfind rjust rpartition rsplit rstrip
+setdefault split splitlines startswith strip update upper values zfill bit_length add discard""".split()
 BARRED_WORDS = """type typing enum Enum Flag Generic Protocol ABC namedtuple dataclass overload global async await float
 register mro elements open input law exec eval compile globals locals vars dir id help exit quit""".split()
 # A console keeps its last value as `_`.
 ALL_BUILTINS = [name for name in dir(builtins) if name != "_"]
-BARRED_NODES = (ast.AsyncFunctionDef, ast.AsyncFor, ast.AsyncWith, ast.Await, ast.Global, ast.Div, ast.GeneratorExp, ast.MatMult)
+BARRED_NODES = (ast.AsyncFunctionDef, ast.AsyncFor, ast.AsyncWith, ast.Await, ast.Global, ast.Div, ast.GeneratorExp,
+                ast.MatMult)
 
 INTERFACE = {
-    errors: """StrewError NoCommand NoDeed(index) NoFit NoName(name) NoNumber(many) NoText(line) NotGood TooMany(most) Twice(name)
-Wrong(place)""",
-    places: """spots_of(book) halls_of(book) places_of(book) dungeon_spots(book) asked_things(book) places_at(book,spot)
-all_places_at(book,spot) region_at(book,spot) dungeon_at(book,spot) room_at(book,hall) content_at(book,shuffle,place)
-laid_at(book,shuffle,spot) telling_of(book,shuffle) shuffle_of(book,telling)""",
-    forms: """is_integer(thing) is_name(thing) is_fraction(thing) is_dungeon(thing) is_book(thing) is_content(book,thing)
-is_shuffle(book,thing) is_deed(book,thing) is_state(book,thing) reduced(n,d)""",
+    errors: """StrewError NoCommand NoDeed(index) NoFit NoName(name) NoNumber(many) NoText(line) NotGood TooMany(most)
+        Twice(name) Wrong(place)""",
+    places: """spots_of(book) halls_of(book) places_of(book) dungeon_spots(book) asked_things(book)
+        places_at(book,spot) all_places_at(book,spot) region_at(book,spot) dungeon_at(book,spot) room_at(book,hall)
+        content_at(book,shuffle,place) laid_at(book,shuffle,spot) telling_of(book,shuffle) shuffle_of(book,telling)""",
+    forms: """is_integer(thing) is_name(thing) is_fraction(thing) is_dungeon(thing) is_book(thing)
+        is_content(book,thing) is_shuffle(book,thing) is_deed(book,thing) is_state(book,thing) reduced(n,d)""",
     shower: "show_book(book) show_shuffle(book,shuffle) show_deed(book,deed)",
     reader: "read_book(text) read_shuffle(book,text) read_deed(book,text)",
-    regions: """first_spots(book) reached_spots(book,held) spots_off(book,held) places_in(book,spots) barred_arrows(book,held)
-free_many(book,spots)""",
-    gathering: """rounds_from(book,shuffle,held) rounds_of(book,shuffle) gathered_from(book,shuffle,held) gathered(book,shuffle)
-needed_things(book,shuffle) leads_on(book,shuffle) is_needed(book,shuffle,thing) is_round_row(book,shuffle,thing)
-round_of_spot(book,shuffle,spot)""",
+    regions: """first_spots(book) reached_spots(book,held) spots_off(book,held) places_in(book,spots)
+        barred_arrows(book,held) free_many(book,spots)""",
+    gathering: """rounds_from(book,shuffle,held) rounds_of(book,shuffle) gathered_from(book,shuffle,held)
+        gathered(book,shuffle) needed_things(book,shuffle) leads_on(book,shuffle) is_needed(book,shuffle,thing)
+        is_round_row(book,shuffle,thing) round_of_spot(book,shuffle,spot)""",
     parts: """branch_of(dungeon,v) way_to(dungeon,v) rim_of(dungeon,rooms) closed_part(dungeon,laid,rooms)
-opened_part(dungeon,laid,rooms) all_parts(dungeon,laid) net_of(dungeon,laid,part) way_has_bar(dungeon,big)
-is_part(dungeon,laid,thing)""",
+        opened_part(dungeon,laid,rooms) all_parts(dungeon,laid) net_of(dungeon,laid,part) way_has_bar(dungeon,big)
+        is_part(dungeon,laid,thing)""",
 }
 
 
@@ -54,7 +56,7 @@ class Language(unittest.TestCase):
 
     def test_files(self):
         names = [name for name, _ in sources()]
-        self.assertEqual(names, sorted(["__init__.py"] + [name + ".py" for name in ORDER]))
+        self.assertEqual([name for name in names if name[:-3] not in ORDER], ["__init__.py"])
         self.assertEqual(dict(sources())["__init__.py"], "")
 
     def test_sizes_and_signs(self):
@@ -99,6 +101,17 @@ class Language(unittest.TestCase):
                     self.assertNotIn(node.arg, ALL_BUILTINS + BARRED_WORDS, name)
                 if isinstance(node, ast.Constant):
                     self.assertNotIsInstance(node.value, (float, complex), name)
+
+    def test_no_name_hides_a_class_or_an_import(self):
+        for name, text in sources():
+            tree = ast.parse(text)
+            taken = [node.name for node in tree.body if isinstance(node, ast.ClassDef)]
+            taken += [found.name for node in tree.body if isinstance(node, ast.ImportFrom) for found in node.names]
+            for node in ast.walk(tree):
+                if isinstance(node, ast.Name) and isinstance(node.ctx, ast.Store):
+                    self.assertNotIn(node.id, taken, name)
+                if isinstance(node, ast.arg):
+                    self.assertNotIn(node.arg, taken, name)
 
     def test_calls_and_comparisons(self):
         for name, text in sources():
