@@ -105,8 +105,8 @@ GATHERING = r"""
 [((1,),), False, None, (0, 1, 2)]
 """
 
-# The rows about nets are left out of this one.
-PARTS = r"""
+NETS = r"""
+>>> from wellstrewn.nets import are_keys_good, is_net_table, least_net, locks_to_nought, net_table, worst_part
 >>> from wellstrewn.parts import all_parts, branch_of, closed_part, is_part, net_of, opened_part, rim_of, way_has_bar, way_to
 >>> dungeon = (((None, None, 2), (0, "lock", 1), (0, "lock", 1), (2, "bar", 1)), 2)
 >>> [branch_of(dungeon, 2), way_to(dungeon, 3), way_has_bar(dungeon, 3), way_has_bar(dungeon, 2), way_has_bar(dungeon, None), rim_of(dungeon, (0, 2))]
@@ -120,9 +120,70 @@ PARTS = r"""
 [False, True, False, (0, 1, 2, 3)]
 >>> [opened_part(dungeon, good, ()), opened_part(dungeon, good, (2,)), opened_part(dungeon, (2, (2, 0, 0, 0)), (2,)), opened_part(dungeon, (1, (2, 0, 0, 0)), (2,))]
 [(0,), (0, 2, 3), (0, 2, 3), (0, 2)]
+>>> net_table(dungeon, good)
+((None, None, 0, 1), (-1, None, -1, None), (-1, -1, -1, None), (0, None, 0, None))
+>>> net_table(dungeon, (2, (2, 0, 0, 0)))
+((1, 1, 0, 1), (-1, None, -1, None), (None, None, -1, None), (0, None, 0, None))
+>>> [least_net(dungeon, good), least_net(dungeon, bad), worst_part(dungeon, bad), are_keys_good(dungeon, good), are_keys_good(dungeon, bad)]
+[1, 0, (0, 2, 3), True, False]
+>>> [locks_to_nought(dungeon, good), locks_to_nought(dungeon, bad), is_net_table(dungeon, bad, net_table(dungeon, good))]
+[None, (2,), False]
 >>> plain = (((None, None, 2), (0, "lock", 1), (1, "lock", 1), (0, "open", 2)), 2)
->>> all_parts(plain, (None, (1, 0, 0, 1)))
-[(0, 1, 2, 3), (0, 1, 3), (0, 3)]
+>>> [all_parts(plain, (None, (1, 0, 0, 1))), net_table(plain, (None, (1, 0, 0, 1)))[:2], least_net((((None, None, 3),), 1), (None, (1,)))]
+[[(0, 1, 2, 3), (0, 1, 3), (0, 3)], ((0, 1, None, None), (-2, -1, None, None)), None]
+"""
+
+PLAYS = r"""
+>>> from wellstrewn.deadends import finish, foolish, hasty, left_open, shortest_dead_end
+>>> from wellstrewn.errors import NoDeed
+>>> from wellstrewn.plays import deeds_of, done, halls_in, held_in, is_dead_end, is_play, is_whole, keys_in_hand, may_do, run, spots_in, start_state
+>>> keep = (((None, None, 1), (0, "lock", 1)), 1)
+>>> world = ("w", (("home", 2, None), ("keep", 0, keep)), ((0, 1, (0,)),))
+>>> book = ((world,), (("hook", 0), ("coin", 0)))
+>>> good = (("thing", 0), ("straw",), ("key",), ("thing", 1))
+>>> [deeds_of(book, good, start_state()), is_whole(book, good, start_state()), keys_in_hand(book, good, start_state())]
+[(('open', (0, 0, -1, 0)), ('open', (0, 0, -1, 1))), False, {(0, 1): 0}]
+>>> state = run(book, good, [("open", (0, 0, -1, 0)), ("open", (0, 1, 0, 0))])
+>>> [held_in(book, good, state), spots_in(book, good, state), halls_in(book, good, state), keys_in_hand(book, good, state)]
+[(0,), ((0, 0), (0, 1)), ((0, 1, 0),), {(0, 1): 1}]
+>>> [may_do(book, good, state, ("unlock", (0, 1, 1))), may_do(book, good, state, ("open", (0, 1, 1, 0))), may_do(book, good, state, ("leave", 0))]
+[True, False, True]
+>>> [is_whole(book, good, done(book, good, state, ("unlock", (0, 1, 1)))), finish(book, good, state)]
+[True, (('open', (0, 0, -1, 1)), ('unlock', (0, 1, 1)), ('open', (0, 1, 1, 0)))]
+>>> [hasty(book, good, state), foolish(book, good, state, (5, 0, 7, 7)), shortest_dead_end(book, good)]
+[(('unlock', (0, 1, 1)), ('open', (0, 1, 1, 0)), ('open', (0, 0, -1, 1))), (('unlock', (0, 1, 1)), ('open', (0, 0, -1, 1)), ('open', (0, 1, 1, 0))), None]
+>>> bad = (("thing", 0), ("thing", 1), ("straw",), ("key",))
+>>> play = shortest_dead_end(book, bad)
+>>> [len(play), is_dead_end(book, bad, run(book, bad, play)), left_open(book, bad, run(book, bad, play)), is_play(book, good, play[:2])]
+[3, True, ((), ((0, 1, 1),)), True]
+>>> try:
+...     run(book, bad, [("open", (0, 0, -1, 1)), ("open", (0, 1, 0, 0))])
+... except NoDeed as error:
+...     print(error.index)
+1
+"""
+
+PAPERS = r"""
+>>> from wellstrewn.goodness import fault_of, is_good
+>>> from wellstrewn.papers import dead_play, good_paper, is_dead_play, is_good_paper
+>>> cave = (((None, None, 2), (0, "lock", 1), (0, "lock", 1)), 2)
+>>> book = ((("ann", (("shore", 1, None), ("cliff", 1, cave)), ((0, 1, (0,)),)),), (("hook", 0),))
+>>> hook, key, straw = ("thing", 0), ("key",), ("straw",)
+>>> good = (hook, straw, key, key, straw, straw)
+>>> [is_good(book, good), fault_of(book, good), dead_play(book, good)]
+[True, None, None]
+>>> paper = good_paper(book, good)
+>>> [paper[0], len(paper[1]), is_good_paper(book, good, paper), is_good_paper(book, good, ((), paper[1])), is_good_paper(book, good, (((0,), ()), paper[1]))]
+[((0,),), 1, True, False, False]
+>>> bad = (hook, straw, key, straw, key, straw)
+>>> [is_good(book, bad), fault_of(book, bad)]
+[False, ('net', (0, 1), (0, 2))]
+>>> play = (("open", (0, 0, -1, 0)), ("open", (0, 1, -1, 0)), ("open", (0, 1, 0, 0)), ("open", (0, 1, 0, 1)), ("unlock", (0, 1, 2)), ("open", (0, 1, 2, 0)))
+>>> [is_dead_play(book, bad, play), is_dead_play(book, bad, play[:-1]), is_dead_play(book, bad, dead_play(book, bad)), is_good_paper(book, bad, paper)]
+[True, False, True, False]
+>>> shut = (straw, hook, key, key, straw, straw)
+>>> [fault_of(book, shut), is_dead_play(book, shut, (("open", (0, 0, -1, 0)),)), is_dead_play(book, shut, ())]
+[('regions', ((0, 1),)), True, False]
 """
 
 
@@ -144,8 +205,14 @@ class Examples(unittest.TestCase):
     def test_regions_and_gathering(self):
         self.check(GATHERING)
 
-    def test_parts(self):
-        self.check(PARTS)
+    def test_parts_and_nets(self):
+        self.check(NETS)
+
+    def test_plays_and_dead_ends(self):
+        self.check(PLAYS)
+
+    def test_goodness_and_papers(self):
+        self.check(PAPERS)
 
 
 if __name__ == "__main__":

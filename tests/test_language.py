@@ -6,7 +6,8 @@ import inspect
 import os
 import unittest
 
-from wellstrewn import errors, forms, gathering, parts, places, reader, regions, shower
+from wellstrewn import deadends, errors, forms, gathering, goodness, nets, papers, parts, places, plays, reader, regions
+from wellstrewn import shower
 
 FOLDER = os.path.join(os.path.dirname(os.path.dirname(os.path.abspath(__file__))), "wellstrewn")
 # All modules that the document names, in its order: each may use those above it.
@@ -42,6 +43,18 @@ INTERFACE = {
     parts: """branch_of(dungeon,v) way_to(dungeon,v) rim_of(dungeon,rooms) closed_part(dungeon,laid,rooms)
         opened_part(dungeon,laid,rooms) all_parts(dungeon,laid) net_of(dungeon,laid,part) way_has_bar(dungeon,big)
         is_part(dungeon,laid,thing)""",
+    nets: """net_table(dungeon,laid) is_net_table(dungeon,laid,thing) are_keys_good(dungeon,laid)
+        least_net(dungeon,laid) worst_part(dungeon,laid) locks_to_nought(dungeon,laid)""",
+    plays: """start_state() held_in(book,shuffle,state) big_keys(book,shuffle,state) spots_in(book,shuffle,state)
+        halls_in(book,shuffle,state) reached_places(book,shuffle,state) keys_in_hand(book,shuffle,state)
+        is_whole(book,shuffle,state) is_dead_end(book,shuffle,state) deeds_of(book,shuffle,state)
+        may_do(book,shuffle,state,deed) is_play(book,shuffle,thing) done(book,shuffle,state,deed)
+        run(book,shuffle,play) states_of(book,shuffle,play)""",
+    deadends: """shortest_dead_end(book,shuffle) finish(book,shuffle,state) foolish(book,shuffle,state,choices)
+        hasty(book,shuffle,state) left_open(book,shuffle,state)""",
+    goodness: "fault_of(book,shuffle) is_good(book,shuffle)",
+    papers: """is_good_paper(book,shuffle,thing) is_dead_play(book,shuffle,thing) good_paper(book,shuffle)
+        dead_play(book,shuffle)""",
 }
 
 
@@ -114,8 +127,9 @@ class Language(unittest.TestCase):
                     self.assertNotIn(node.arg, taken, name)
 
     def test_calls_and_comparisons(self):
+        own = [node.name for _, text in sources() for node in ast.walk(ast.parse(text))
+               if isinstance(node, ast.FunctionDef)]
         for name, text in sources():
-            own = [node.name for node in ast.walk(ast.parse(text)) if isinstance(node, ast.FunctionDef)]
             for node in ast.walk(ast.parse(text)):
                 if isinstance(node, ast.Call) and isinstance(node.func, ast.Attribute):
                     self.assertIn(node.func.attr, METHODS + own, (name, node.lineno))

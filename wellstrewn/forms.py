@@ -215,3 +215,13 @@ def is_state(book, thing):
     if not is_lot_among(opened, 4, places_of(book)) or not is_lot_among(unlocked, 3, locked_halls(book)):
         return False
     return is_lot(gone, len(book[0]))
+
+
+def is_same(thing, right):
+    """Whether any value is just a right one, a tuple of integers, None and such tuples."""
+    # With == alone a truth would pass for an integer.
+    if isinstance(right, tuple):
+        return is_row(thing, len(right)) and all([is_same(one, other) for one, other in zip(thing, right)])
+    if right is None:
+        return thing is None
+    return is_integer(thing) and thing == right
