@@ -186,6 +186,55 @@ PAPERS = r"""
 [('regions', ((0, 1),)), True, False]
 """
 
+KEYS = r"""
+>>> from wellstrewn.errors import NoNumber
+>>> from wellstrewn.keylayings import all_key_layings, key_laying_number, key_layings_below, nth_key_laying
+>>> from wellstrewn.keytables import chests_in, count_key_layings, is_key_laying, key_chances, key_counts, laid_by
+>>> dungeon = (((None, None, 3), (0, "lock", 2), (0, "bar", 1)), 1)
+>>> any_of = ("any",) * 6
+>>> [chests_in(dungeon)[2:5], laid_by(dungeon, (4, (0,))), is_key_laying(dungeon, any_of, (4, (0,))), is_key_laying(dungeon, any_of, (0, (4,)))]
+[((0, 2), (1, 0), (1, 1)), (1, (1, 0, 0)), True, False]
+>>> [count_key_layings(dungeon, any_of), key_counts(dungeon, any_of)]
+[15, {0: 3, 1: 3, 2: 3, 3: 3, 4: 3, 5: 0}]
+>>> [nth_key_laying(dungeon, any_of, n) for n in (0, 2, 4, 14)]
+[(0, (1,)), (0, (5,)), (1, (2,)), (4, (2,))]
+>>> [key_laying_number(dungeon, any_of, (3, (1,))), key_layings_below(dungeon, any_of, (3, (5,))), key_layings_below(dungeon, any_of, (5, (0,)))]
+[10, 12, 15]
+>>> seen = ("any", "other", "any", "any", "big", "any")
+>>> [count_key_layings(dungeon, seen), all_key_layings(dungeon, seen, 100), key_counts(dungeon, seen), key_chances(dungeon, seen)]
+[2, [(4, (0,)), (4, (2,))], {4: 2}, ((1, 0), (0, 0), (1, 0), (0, 0), (0, 2), (0, 0))]
+>>> all_key_layings(dungeon, ("any", "any", "key", "any", "any", "any"), 100)
+[(0, (2,)), (1, (2,)), (3, (2,)), (4, (2,))]
+>>> plain = (((None, None, 2), (0, "lock", 1), (1, "lock", 1), (0, "open", 2)), 2)
+>>> [count_key_layings(plain, any_of), key_counts(plain, any_of), nth_key_laying(plain, ("any", "other", "any", "any", "key", "any"), 1)]
+[10, {-1: 10}, (None, (2, 4))]
+>>> try:
+...     nth_key_laying(plain, ("big",) + any_of[1:], 0)
+... except NoNumber as error:
+...     print(error.many)
+0
+"""
+
+THINGS = r"""
+>>> from wellstrewn.thinglayings import count_layings, field_frame, is_laying, laying_number, nth_laying
+>>> from wellstrewn.thingtables import count_ways, reach_table, ways_gathering
+>>> book = ((("ann", (("shore", 2, None), ("cliff", 1, None)), ((0, 1, (0,)),)),), (("hook", 0), ("lamp", 0)))
+>>> [reach_table(book), count_ways(book, ((2, 1), (None, None), (None, None)))]
+[{(): ((0, 0),), (0,): ((0, 0), (0, 1))}, 4]
+>>> wide = ((("ann", book[0][0][1], ((0, 1, (0,)), (1, 0, (1,)))),), book[1])
+>>> ways_gathering(wide, ((2, 1), (None, None), (None, None)))
+{(): 1, (0,): 2, (0, 1): 4, (1,): 2}
+>>> [count_ways(book, ((1, 1), ((0, 0), None), (None, None))), count_ways(book, ((2, 0), ((0, 1), None), (None, None)))]
+[2, 0]
+>>> [count_ways(book, ((2, 1), (None, None), (None, ((0, 1),)))), count_ways(book, ((2, 1), (None, None), (((0, 1),), None)))]
+[2, 0]
+>>> field = (((0, 0, -1, 0), (0, 0, -1, 1), (0, 1, -1, 0)), (None, None), (None, None))
+>>> [count_layings(book, field), nth_laying(book, field, 1), laying_number(book, field, ((0, 0, -1, 1), (0, 0, -1, 0)))]
+[4, ((0, 0, -1, 0), (0, 1, -1, 0)), 2]
+>>> [field_frame(book, field)[0], is_laying(book, field, ((0, 1, -1, 0), (0, 0, -1, 0))), is_laying(book, field, nth_laying(book, field, 3))]
+[(2, 1), False, True]
+"""
+
 
 class Examples(unittest.TestCase):
 
@@ -213,6 +262,12 @@ class Examples(unittest.TestCase):
 
     def test_goodness_and_papers(self):
         self.check(PAPERS)
+
+    def test_keys(self):
+        self.check(KEYS)
+
+    def test_things(self):
+        self.check(THINGS)
 
 
 if __name__ == "__main__":

@@ -6,8 +6,8 @@ import inspect
 import os
 import unittest
 
-from wellstrewn import deadends, errors, forms, gathering, goodness, nets, papers, parts, places, plays, reader, regions
-from wellstrewn import shower
+from wellstrewn import deadends, errors, forms, gathering, goodness, keylayings, keytables, nets, papers, parts, places
+from wellstrewn import plays, reader, regions, shower, thinglayings, thingtables
 
 FOLDER = os.path.join(os.path.dirname(os.path.dirname(os.path.abspath(__file__))), "wellstrewn")
 # All modules that the document names, in its order: each may use those above it.
@@ -20,6 +20,7 @@ isupper items join keys ljust lower lstrip partition pop remove replace reverse 
 setdefault split splitlines startswith strip update upper values zfill bit_length add discard""".split()
 BARRED_WORDS = """type typing enum Enum Flag Generic Protocol ABC namedtuple dataclass overload global async await float
 register mro elements open input law exec eval compile globals locals vars dir id help exit quit""".split()
+LIBRARY = {"math": ("gcd", "comb", "perm"), "itertools": ("combinations",)}
 # A console keeps its last value as `_`.
 ALL_BUILTINS = [name for name in dir(builtins) if name != "_"]
 BARRED_NODES = (ast.AsyncFunctionDef, ast.AsyncFor, ast.AsyncWith, ast.Await, ast.Global, ast.Div, ast.GeneratorExp,
@@ -55,6 +56,13 @@ INTERFACE = {
     goodness: "fault_of(book,shuffle) is_good(book,shuffle)",
     papers: """is_good_paper(book,shuffle,thing) is_dead_play(book,shuffle,thing) good_paper(book,shuffle)
         dead_play(book,shuffle)""",
+    keytables: """chests_in(dungeon) laid_by(dungeon,laying) key_chances(dungeon,sight)
+        is_key_laying(dungeon,sight,thing) count_key_layings(dungeon,sight) key_counts(dungeon,sight)""",
+    keylayings: """nth_key_laying(dungeon,sight,n) key_layings_below(dungeon,sight,laying)
+        key_laying_number(dungeon,sight,laying) all_key_layings(dungeon,sight,most)""",
+    thingtables: "reach_table(book) ways_gathering(book,frame) count_ways(book,frame)",
+    thinglayings: """field_frame(book,field) nth_laying(book,field,n) is_laying(book,field,thing)
+        count_layings(book,field) laying_number(book,field,some)""",
 }
 
 
@@ -86,7 +94,11 @@ class Language(unittest.TestCase):
         for name, text in sources():
             for node in ast.walk(ast.parse(text)):
                 self.assertNotIsInstance(node, ast.Import, name)
-                if isinstance(node, ast.ImportFrom) and node.module != "math":
+                if isinstance(node, ast.ImportFrom) and node.module in LIBRARY:
+                    for found in node.names:
+                        self.assertIn(found.name, LIBRARY[node.module], name)
+                        self.assertIsNone(found.asname, name)
+                elif isinstance(node, ast.ImportFrom):
                     package, module = node.module.split(".")
                     self.assertEqual((package, node.level), ("wellstrewn", 0))
                     self.assertLess(ORDER.index(module), ORDER.index(name[:-3]), name)
