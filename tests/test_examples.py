@@ -1,4 +1,4 @@
-"""The examples of the document, word for word, as far as the modules that there are answer them."""
+"""The examples of the document, word for word."""
 
 import doctest
 import unittest
@@ -235,6 +235,110 @@ THINGS = r"""
 [(2, 1), False, True]
 """
 
+NUMBERS = r"""
+>>> from wellstrewn.drawing import drawn, drawn_shuffle, rows_of_coins
+>>> from wellstrewn.numbering import good_shuffles, next_good, nth_shuffle, number_of
+>>> cave = (((None, None, 3), (0, "lock", 1), (0, "lock", 1)), 2)
+>>> book = ((("ann", (("shore", 2, None), ("cliff", 1, cave)), ((0, 1, (0,)),)),), (("hook", 0), ("lamp", 0)))
+>>> hook, lamp, key, straw = ("thing", 0), ("thing", 1), ("key",), ("straw",)
+>>> [good_shuffles(book), nth_shuffle(book, 0) == (hook, lamp, straw, key, key, straw, straw, straw)]
+[30, True]
+>>> [number_of(book, (lamp, hook, straw, straw, key, key, straw, straw)), nth_shuffle(book, 25) == (lamp, hook, straw, straw, key, key, straw, straw)]
+[25, True]
+>>> [next_good(book, ((((), ((0, 1, 0, 0), (0, 1, 1, 0))),), ((0, 0, -1, 0), (0, 0, -1, 1)))), nth_shuffle(book, 29)[:3]]
+[20, (('straw',), ('thing', 0), ('straw',))]
+>>> [drawn(5, (True, False, True, False, True, True)), drawn(5, (True, False, True)), drawn(1, ()), rows_of_coins(3, 4)]
+[(3, 6), None, (0, 0), (5, 5, 5)]
+>>> drawn_shuffle(book, (True, True, False, False, True, False)) == (nth_shuffle(book, 25), 5)
+True
+"""
+
+KNOWN = r"""
+>>> from wellstrewn.knowledge import field_from, fits, frame_from, is_knowledge, joined, seen_in, sights_from, with_hint, with_seen
+>>> from wellstrewn.trackers import best_places, can_lie, first_fitting, fitting_at, how_many, parted, share_of, shares_at, shares_for, surely
+>>> keep = (((None, None, 1), (0, "lock", 1)), 1)
+>>> world = ("w", (("home", 2, None), ("keep", 0, keep)), ((0, 1, (0,)),))
+>>> book = ((world,), (("hook", 0), ("coin", 0)))
+>>> nothing = ((), ())
+>>> [how_many(book, nothing), surely(book, nothing), share_of(book, nothing, (0, 0, -1, 0), ("thing", 0))]
+[4, (((0, 1, 0, 0), ('key',)),), (1, 2)]
+>>> [shares_at(book, nothing, (0, 1, 1, 0)), shares_for(book, nothing, 1)]
+[{('straw',): (1, 2), ('thing', 1): (1, 2)}, {(0, 0, -1, 0): (1, 4), (0, 0, -1, 1): (1, 4), (0, 1, 1, 0): (1, 2)}]
+>>> [first_fitting(book, nothing), fitting_at(book, nothing, 3), best_places(book, nothing, 1)]
+[(('thing', 0), ('thing', 1), ('key',), ('straw',)), (('straw',), ('thing', 0), ('key',), ('thing', 1)), ((0, 1, 1, 0),)]
+>>> seen = with_seen(nothing, (0, 0, -1, 0), ("straw",))
+>>> [how_many(book, seen), surely(book, seen), can_lie(book, seen, 1), is_knowledge(book, seen)]
+[1, (((0, 0, -1, 1), ('thing', 0)), ((0, 1, 0, 0), ('key',)), ((0, 1, 1, 0), ('thing', 1))), ((0, 1, 1, 0),), True]
+>>> hinted = with_hint(nothing, 1, ((0, 0),))
+>>> [how_many(book, hinted), share_of(book, hinted, (0, 1, 1, 0), ("straw",)), joined(hinted, with_hint(nothing, 1, ((0, 1),)))]
+[2, (1, 1), None]
+>>> [parted(book, nothing, (0, 0, -1, 0), ("thing", 1)), parted(book, nothing, (0, 1, 0, 0), ("key",))[1], how_many(book, with_seen(nothing, (0, 0, -1, 0), ("key",)))]
+[((('thing', 1), ('thing', 0), ('key',), ('straw',)), (('thing', 0), ('thing', 1), ('key',), ('straw',))), None, 0]
+>>> [frame_from(book, seen), sights_from(book, seen), sights_from(book, with_seen(nothing, (0, 1, 1, 0), ("big",)))]
+[((1, 1), (None, None), (None, None)), (('any', 'any'),), None]
+>>> field_from(book, first_fitting(book, nothing), nothing)
+(((0, 0, -1, 0), (0, 0, -1, 1), (0, 1, 1, 0)), (None, None), (None, None))
+>>> [fits(book, first_fitting(book, nothing), hinted), seen_in(book, first_fitting(book, nothing), (((0, 0, -1, 0),), (), ()))]
+[True, ((((0, 0, -1, 0), ('thing', 0)),), ())]
+"""
+
+RACES = r"""
+>>> from wellstrewn.races import barred_in, is_log, joined_log, judged, state_at, states_along
+>>> from wellstrewn.results import finish_ticks, ranks, splits, waits
+>>> north = ("north", (("camp", 1, None), ("cave", 1, None)), ((0, 1, (0,)),))
+>>> book = ((north, ("south", (("yard", 1, None),), ())), (("hook", 0), ("lamp", 0)))
+>>> shuffle = (("straw",), ("thing", 1), ("thing", 0))
+>>> camp, cave, yard = [("open", place) for place in ((0, 0, -1, 0), (0, 1, -1, 0), (1, 0, -1, 0))]
+>>> [is_log(book, ((1, camp), (1, yard))), is_log(book, ((2, camp), (1, yard))), is_log(book, ((True, camp),)), is_log(book, ())]
+[True, False, False, True]
+>>> [judged(book, shuffle, ((1, camp), (4, cave), (4, yard))), judged(book, shuffle, ((1, camp), (2, camp))), judged(book, shuffle, ())]
+[1, 1, None]
+>>> log = joined_log(book, shuffle, (((1, camp), (4, cave)), ((4, yard),)))
+>>> log == ((1, camp), (4, yard), (4, cave))
+True
+>>> late = (((1, camp), (4, cave)), ((5, yard),))
+>>> [joined_log(book, shuffle, late), barred_in(book, shuffle, late), barred_in(book, shuffle, ((), ()))]
+[None, ((0, 1),), ()]
+>>> [state_at(book, shuffle, log, 3), state_at(book, shuffle, log, 0), len(states_along(book, shuffle, log))]
+[(((0, 0, -1, 0),), (), ()), ((), (), ()), 4]
+>>> [finish_ticks(book, shuffle, log), ranks(book, shuffle, log), splits(book, shuffle, log), waits(book, shuffle, log)]
+[(4, 0), (1, 0), ((4, 1), (4, 0)), (3, 0)]
+>>> short = ((3, ("leave", 1)), (7, cave))
+>>> [finish_ticks(book, shuffle, short), splits(book, shuffle, short), waits(book, shuffle, short), ranks(book, shuffle, short[:0])]
+[(3, 0), ((3, 1), (7, 0)), (0, 0), (None, 0)]
+"""
+
+HOUSES = r"""
+>>> from wellstrewn.desk import Desk
+>>> from wellstrewn.errors import NoDeed
+>>> from wellstrewn.house import House
+>>> from wellstrewn.journal import journal_of, opened, sum_behind, with_record
+>>> [sum_behind(0, "a"), sum_behind(66, "b"), journal_of(["a", "b"]), opened("0 66 a\n1 6469 b\n2"), opened("0 66 a\n1 6468 b\n"), opened("0 66 a")]
+[66, 6469, '0 66 a\n1 6469 b\n', ('a', 'b'), ('a',), ()]
+>>> with_record("0 66 a\n1 6469", "b")
+'0 66 a\n1 6469 b\n'
+>>> tiny = "world ann\nregion shore 1\nregion cliff 1\nthing hook ann\narrow ann shore cliff hook"
+>>> house = House("")
+>>> [house.put_book("tiny", tiny), house.put_race("r", "tiny", 0), house.left("r"), house.shuffle("r"), house.many_left("r")]
+[None, None, (('open', (0, 0, -1, 0)),), (('thing', 0), ('straw',)), 1]
+>>> try:
+...     house.do("r", 3, "open ann cliff 0")
+... except NoDeed as error:
+...     print(error.index)
+0
+>>> [house.do("r", 3, "open ann shore 0"), house.races(), house.left("r"), house.known("r"), house.chance("r", (0, 1, -1, 0), ("straw",))]
+[None, {'r': ('tiny', 0, ((3, ('open', (0, 0, -1, 0))),))}, (('open', (0, 1, -1, 0)),), ((((0, 0, -1, 0), ('thing', 0)),), ()), (1, 1)]
+>>> opened(house.text())[1:]
+('race r tiny 0', 'deed r 3 open ann shore 0')
+>>> [House(house.text()) == house, House(house.text()[:-1]).races(), House(house.text()[:-1]) == house]
+[True, {'r': ('tiny', 0, ())}, False]
+>>> desk = Desk(house.text())
+>>> [desk.execute("many tiny"), desk.execute("seen r"), desk.execute("left r"), desk.execute("chance r straw at ann cliff 0"), desk.execute("state r")]
+[['1'], ['thing hook at ann shore 0'], ['open ann cliff 0'], ['1/1'], ['whole']]
+>>> [desk.execute("do r 5 open  ann cliff 0"), desk.execute("left r"), desk.execute("cut 0"), desk.execute("books"), desk.house() == House("")]
+[['done'], [], ['done'], [], True]
+"""
+
 
 class Examples(unittest.TestCase):
 
@@ -268,6 +372,18 @@ class Examples(unittest.TestCase):
 
     def test_things(self):
         self.check(THINGS)
+
+    def test_numbers_and_drawing(self):
+        self.check(NUMBERS)
+
+    def test_knowledge_and_trackers(self):
+        self.check(KNOWN)
+
+    def test_races_and_results(self):
+        self.check(RACES)
+
+    def test_journal_house_and_desk(self):
+        self.check(HOUSES)
 
 
 if __name__ == "__main__":

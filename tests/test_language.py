@@ -6,13 +6,15 @@ import inspect
 import os
 import unittest
 
-from wellstrewn import deadends, errors, forms, gathering, goodness, keylayings, keytables, nets, papers, parts, places
-from wellstrewn import plays, reader, regions, shower, thinglayings, thingtables
+from wellstrewn import deadends, desk, drawing, errors, forms, gathering, goodness, house, journal, keylayings, keytables
+from wellstrewn import knowledge, nets, numbering, papers, parts, places, plays, races, reader, regions, results, shower
+from wellstrewn import thinglayings, thingtables, trackers
 
 FOLDER = os.path.join(os.path.dirname(os.path.dirname(os.path.abspath(__file__))), "wellstrewn")
-# All modules that the document names, in its order: each may use those above it.
+# All modules that the document names, in its order, and fitting, which it does not: each may use those above it.
 ORDER = """errors places forms shower reader regions gathering parts nets plays deadends goodness papers keytables
-keylayings thingtables thinglayings numbering drawing knowledge trackers races results journal house desk""".split()
+keylayings thingtables thinglayings fitting numbering drawing knowledge trackers races results journal house
+desk""".split()
 BUILTINS = """len range enumerate zip min max sum abs sorted reversed int str bool bytes list tuple dict set isinstance
 ord repr any all divmod pow ValueError""".split()
 METHODS = """append clear copy count endswith extend find get index insert isalnum isalpha isdigit islower isspace
@@ -63,6 +65,28 @@ INTERFACE = {
     thingtables: "reach_table(book) ways_gathering(book,frame) count_ways(book,frame)",
     thinglayings: """field_frame(book,field) nth_laying(book,field,n) is_laying(book,field,thing)
         count_layings(book,field) laying_number(book,field,some)""",
+    numbering: "good_shuffles(book) number_of(book,shuffle) next_good(book,telling) nth_shuffle(book,n)",
+    drawing: "drawn(many,coins) drawn_shuffle(book,coins) rows_of_coins(many,length)",
+    knowledge: """is_knowledge(book,thing) fits(book,shuffle,knowledge) seen_in(book,shuffle,state)
+        with_seen(knowledge,place,content) with_hint(knowledge,t,spots) joined(one,other) frame_from(book,knowledge)
+        sights_from(book,knowledge) field_from(book,shuffle,knowledge)""",
+    trackers: """how_many(book,knowledge) share_of(book,knowledge,place,content) shares_at(book,knowledge,place)
+        shares_for(book,knowledge,t) surely(book,knowledge) can_lie(book,knowledge,t) best_places(book,knowledge,t)
+        first_fitting(book,knowledge) fitting_at(book,knowledge,index) parted(book,knowledge,place,content)
+        is_parting(book,knowledge,place,content,thing)""",
+    races: """is_log(book,thing) states_along(book,shuffle,log) state_at(book,shuffle,log,tick)
+        judged(book,shuffle,log) joined_log(book,shuffle,logs) barred_in(book,shuffle,logs)""",
+    results: """finish_ticks(book,shuffle,log) ranks(book,shuffle,log) splits(book,shuffle,log)
+        waits(book,shuffle,log)""",
+    journal: "sum_behind(ahead,record) journal_of(records) with_record(text,record) opened(text)",
+    house: "House(text)",
+    desk: "Desk(text)",
+}
+METHOD_ROWS = {
+    house.House: """put_book(self,name,text) put_race(self,name,book,n) do(self,name,tick,words) text(self) books(self)
+        races(self) shuffle(self,name) state(self,name) left(self,name) known(self,name)
+        chance(self,name,place,content) many_left(self,name) twin(self) __eq__(self,other)""",
+    desk.Desk: "house(self) execute(self,line) twin(self) __eq__(self,other)",
 }
 
 
@@ -162,6 +186,16 @@ class Interface(unittest.TestCase):
                 self.assertEqual(found.__module__, module.__name__)
                 if arguments:
                     self.assertEqual(",".join(inspect.signature(found).parameters), arguments, name)
+
+    def test_methods_stand_in_the_class_itself(self):
+        for found, rows in METHOD_ROWS.items():
+            for row in rows.split():
+                name, _, arguments = row.rstrip(")").partition("(")
+                self.assertEqual(",".join(inspect.signature(vars(found)[name]).parameters), arguments, name)
+
+    def test_all_modules_of_the_document(self):
+        names = [module.__name__.split(".")[1] for module in INTERFACE]
+        self.assertEqual(names, [name for name in ORDER if name != "fitting"])
 
 
 if __name__ == "__main__":

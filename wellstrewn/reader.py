@@ -33,11 +33,16 @@ def words_of(line):
     return [word for word in line.split(" ") if word != ""]
 
 
-def number_from(word):
-    """The integer that a word shows as a NUMBER, None if it shows none."""
-    if not 1 <= len(word) <= 9 or not all([sign in DIGITS for sign in word]):
+def integer_from(word, most):
+    """The integer from 0 on that a word shows as Python does, in at most so many digits; None if it shows none."""
+    if not 1 <= len(word) <= most or not all([sign in DIGITS for sign in word]):
         return None
     return int(word) if word == "0" or word[0] != "0" else None
+
+
+def number_from(word):
+    """The integer that a word shows as a NUMBER, None if it shows none."""
+    return integer_from(word, 9)
 
 
 def index_named(name, rows):
